@@ -340,9 +340,15 @@ func TestWriteAny(t *testing.T) {
 	}
 }
 
-// wrongSymbols are numbers that are no symbols of l.
+// wrongSymbols are numbers that are no symbols of l, and those that it doesn't use.
 func wrongSymbols(l []int) []int {
-	return []int{-1, -2, len(l), len(l) + 1, api.MaxSyms, math.MinInt, math.MaxInt}
+	out := []int{-1, -2, len(l), len(l) + 1, api.MaxSyms, math.MinInt, math.MaxInt}
+	for s, n := range l {
+		if n == 0 {
+			out = append(out, s)
+		}
+	}
+	return out
 }
 
 // wrongWriters are writers that are not right.
@@ -354,28 +360,39 @@ func wrongWriters() []bits.Writer {
 	}
 }
 
-// writeWrong holds that ErrArg is told, beside the writer as it was.
-func writeWrong(t *testing.T, w bits.Writer, l []int, s int) {
+// writeWrong holds that ErrArg is told, beside one writer, at every wrong book and symbol.
+func writeWrong(t *testing.T, w, want bits.Writer) {
 	t.Helper()
-	if x, e := Write(w, l, s); e != api.ErrArg || !sameWriter(x, w) {
-		t.Errorf("%v: %d behind %d bits: %d bits, error %d", l, s, w.N, x.N, e)
+	look := func(l []int, s int) {
+		if x, e := Write(w, l, s); e != api.ErrArg || !sameWriter(x, want) {
+			t.Errorf("%v: %d behind %d bits: %d bytes, %d bits, error %d", l, s, w.N, len(x.B), x.N, e)
+		}
+	}
+	for _, l := range edgeBooks() {
+		for _, s := range wrongSymbols(l) {
+			look(l, s)
+		}
+	}
+	for _, l := range wrongBooks() {
+		for _, s := range []int{0, 1, 63} {
+			look(l, s)
+		}
 	}
 }
 
-// P4.2: what may not be is told, whatever the writer is, ahead of its being full.
+// P4.2: what may not be is told ahead of the writer's being full, beside the writer as it was.
 func TestWriteWrong(t *testing.T) {
-	ws := append(wrongWriters(), writer(""), writer("1"), writer(pattern(5, 77)), writer(pattern(6, api.MaxBits)))
-	for _, w := range ws {
-		for _, l := range edgeBooks() {
-			for _, s := range wrongSymbols(l) {
-				writeWrong(t, w, l, s)
-			}
-		}
-		for _, l := range wrongBooks() {
-			for _, s := range []int{0, 1, 63} {
-				writeWrong(t, w, l, s)
-			}
-		}
+	for _, w := range []bits.Writer{
+		{}, writer(""), writer("1"), writer("11111111"), writer(pattern(5, 77)), writer(pattern(6, api.MaxBits-1)), writer(pattern(6, api.MaxBits)),
+	} {
+		writeWrong(t, w, w)
+	}
+}
+
+// P4.2, with chapter 1's word on writers that are not right: the zero one stands in their place, with an error too.
+func TestWriteWrongBehindWrongWriters(t *testing.T) {
+	for _, w := range wrongWriters() {
+		writeWrong(t, w, bits.Writer{})
 	}
 }
 
@@ -398,7 +415,7 @@ func TestWriteFull(t *testing.T) {
 	}
 }
 
-// P4.2, with bits.Put's word on writers that are not right: the empty one stands in their place.
+// P4.2, with chapter 1's word on writers that are not right: a symbol is written behind the zero one.
 func TestWriteBehindWrongWriters(t *testing.T) {
 	l := []int{1, 2, 0, 2}
 	for _, w := range wrongWriters() {
@@ -654,6 +671,20 @@ func TestWriteIsNewMemory(t *testing.T) {
 	}
 	if !slices.Equal(l, []int{1, 2, 0, 2}) {
 		t.Errorf("the book is changed: %v", l)
+	}
+}
+
+// R3: a writer that isn't right is handed in, and stays as it is too.
+func TestWrongWritersStay(t *testing.T) {
+	for _, w := range wrongWriters() {
+		was := slices.Clone(w.B)
+		for _, s := range []int{3, 2, -1} {
+			out, _ := Write(w, []int{1, 2, 0, 2}, s)
+			spoil(out.B, 0x55)
+			if !bytes.Equal(w.B, was) {
+				t.Errorf("symbol %d behind %d bits: the writer is changed", s, w.N)
+			}
+		}
 	}
 }
 
